@@ -1,0 +1,1 @@
+"""Beliefsets: how far evidence goes, and papers that show it."""
