@@ -42,15 +42,20 @@ def held(belief, some):
     return told_at("held", belief, some)
 
 
-def table_of(word, n, belief):
-    """The table of a word: the tuple of what it tells of a belief at all sets of n cases."""
+def tops_of(word, n, belief):
+    """The tops of the table of a word over one bottom, a list by the numbers of all sets, and that bottom."""
     inners = [inner for inner, share in belief]
     tops, bottom = on_one_bottom([share for inner, share in belief])
     found = []
     for some in range(all_cases(n) + 1):
-        counted = [top for inner, top in zip(inners, tops) if counts(word, inner, some)]
-        found.append(fraction(sum(counted), bottom))
-    return tuple(found)
+        found.append(sum([top for inner, top in zip(inners, tops) if counts(word, inner, some)]))
+    return found, bottom
+
+
+def table_of(word, n, belief):
+    """The table of a word: the tuple of what it tells of a belief at all sets of n cases."""
+    tops, bottom = tops_of(word, n, belief)
+    return tuple([fraction(top, bottom) for top in tops])
 
 
 def turned_if_odd(one, many):

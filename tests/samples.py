@@ -89,6 +89,32 @@ def alike(one, other):
     return one == other
 
 
+def otherwise(thing):
+    """Things that might be taken for a thing and are others: of its kind, and of other kinds."""
+    found = [None, "", str(thing), [thing], (thing,), deep(60)]
+    if isinstance(thing, tuple):
+        found += [list(thing), (), [], thing + (0,), thing + thing[-1:], thing[:-1], thing[1:], thing[::-1]]
+    elif isinstance(thing, str):
+        found += [thing + " ", thing.upper(), thing[:-1], 0, True, ("some",), "all", "some"]
+    else:
+        found += [thing + 1, thing - 1, -thing, 10 ** 599, -(10 ** 599), 6, 64, False, True, bool(thing)]
+    return [one for one in found if not alike(one, thing)]
+
+
+def spoiled(thing):
+    """A thing with one thing in it otherwise, in each place, itself too, and in each of several ways."""
+    yield from otherwise(thing)
+    if isinstance(thing, tuple):
+        for k, inner in enumerate(thing):
+            for one in spoiled(inner):
+                yield thing[:k] + (one,) + thing[k + 1:]
+
+
+def is_plain_number(thing, low, high):
+    """Whether a thing is an int, no truth, from low to below high."""
+    return type(thing) is int and low <= thing < high
+
+
 class Case(unittest.TestCase):
     """Asks functions, and looks each time whether what was handed in stayed as it was."""
 
