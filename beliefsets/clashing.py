@@ -1,18 +1,8 @@
 """Clash: whether closed pieces all clash, and papers that show it."""
 
 from beliefsets.beliefs import core_of
-from beliefsets.fractions import is_whole
-from beliefsets.sets import NONE, all_cases, cases_in, sets_within, size_of
-
-
-def is_below(many, thing):
-    """Whether any thing is a whole number from 0 on, below many."""
-    return is_whole(thing) and 0 <= thing < many
-
-
-def has_case(some, case):
-    """Whether a case is in a set."""
-    return (some >> case) & 1 == 1
+from beliefsets.fractions import is_below, is_whole
+from beliefsets.sets import NONE, all_cases, cases_in, has_case, sets_within, size_of
 
 
 def shared_core(n, cores):

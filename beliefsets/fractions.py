@@ -11,6 +11,11 @@ def is_whole(thing):
     return isinstance(thing, int) and not isinstance(thing, bool)
 
 
+def is_below(many, thing):
+    """Whether any thing is a whole number from 0 on, below many."""
+    return is_whole(thing) and 0 <= thing < many
+
+
 def common_divisor(one, other):
     """The greatest common divisor of two whole numbers, that of nought and nought being 0."""
     while other != 0:
@@ -86,7 +91,12 @@ def total(some):
     return fraction(sum(tops), bottom)
 
 
+def come_to(some, whole):
+    """Whether the sum of fractions is just a fraction."""
+    tops, bottom = on_one_bottom(some)
+    return sum(tops) * whole[1] == whole[0] * bottom
+
+
 def come_to_one(some):
     """Whether the sum of fractions is one."""
-    tops, bottom = on_one_bottom(some)
-    return sum(tops) == bottom
+    return come_to(some, ONE)

@@ -1,9 +1,8 @@
 """The rules of tales: which tuples are rules, and where they can stand."""
 
 from beliefsets.beliefs import is_wide, share_of
-from beliefsets.clashing import is_below
 from beliefsets.finer import is_map
-from beliefsets.fractions import ONE, is_share
+from beliefsets.fractions import ONE, is_below, is_share
 from beliefsets.sets import NONE
 
 LENGTHS = {"piece": 2, "both": 3, "either": 3, "weaker": 3, "finer": 3, "coarser": 3, "taken": 3, "cleaned": 2}

@@ -15,9 +15,14 @@ def is_set(n, thing):
     return is_whole(thing) and 0 <= thing <= all_cases(n)
 
 
+def has_case(some, case):
+    """Whether a case is in a set."""
+    return (some >> case) & 1 == 1
+
+
 def cases_in(some):
     """The cases of a set, a rising list."""
-    return [case for case in range(some.bit_length()) if (some >> case) & 1 == 1]
+    return [case for case in range(some.bit_length()) if has_case(some, case)]
 
 
 def size_of(some):

@@ -1,10 +1,9 @@
 """The tale checker: rows are looked at set by set, by tables alone; it seeks nothing."""
 
 from beliefsets.beliefs import is_belief, share_of
-from beliefsets.clashing import is_below
 from beliefsets.errors import NoPaper
 from beliefsets.finer import image, shadow
-from beliefsets.fractions import is_fraction, is_less, is_whole
+from beliefsets.fractions import is_below, is_fraction, is_less, is_whole
 from beliefsets.rules import cases_by
 from beliefsets.sets import NONE, all_cases, is_set
 from beliefsets.tables import may, surely, tops_of

@@ -152,6 +152,20 @@ class Language(unittest.TestCase):
                 if isinstance(node, ast.Call) and isinstance(node.func, ast.Attribute):
                     self.assertIn(node.func.attr, METHODS | own, at(path, node))
 
+    def test_what_is_iterated_at_once(self):
+        takers = {"list", "tuple", "dict", "sorted", "sum", "any", "all", "enumerate", "zip", "bytes", "min", "max"}
+        for path, text, tree in each():
+            told = {id(node.iter) for node in ast.walk(tree) if isinstance(node, (ast.For, ast.comprehension))}
+            for node in ast.walk(tree):
+                if isinstance(node, ast.Call) and getattr(node.func, "id", None) in takers:
+                    told |= {id(one) for one in node.args}
+            for node in ast.walk(tree):
+                passing = isinstance(node, ast.GeneratorExp)
+                if isinstance(node, ast.Call):
+                    passing = getattr(node.func, "id", None) in ("zip", "range", "enumerate", "reversed")
+                    passing = passing or getattr(node.func, "attr", None) in ("items", "keys", "values")
+                self.assertTrue(not passing or id(node) in told, at(path, node) if passing else "")
+
 
 if __name__ == "__main__":
     unittest.main()
