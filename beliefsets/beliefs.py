@@ -35,12 +35,23 @@ def belief_of_sums(sums):
     return tuple([(some, one) for some, one in sums if one[0] != 0])
 
 
-def belief_of(n, pairs):
-    """The belief of n cases made of pairs (set, fraction), those of one set added."""
+def gathered(pairs):
+    """The fractions of pairs (set, fraction), a dict of lists by their sets."""
     found = {}
     for some, one in pairs:
         found.setdefault(some, []).append(one)
-    return belief_of_sums([(some, total(found[some])) for some in sorted(found)])
+    return found
+
+
+def sums_of(pairs):
+    """The sums of pairs (set, fraction), a list of (set, sum), sets rising."""
+    found = gathered(pairs)
+    return [(some, total(found[some])) for some in sorted(found)]
+
+
+def belief_of(n, pairs):
+    """The belief of n cases made of pairs (set, fraction), those of one set added."""
+    return belief_of_sums(sums_of(pairs))
 
 
 def share_of(belief, some):

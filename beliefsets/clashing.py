@@ -2,7 +2,7 @@
 
 from beliefsets.beliefs import core_of
 from beliefsets.fractions import is_below, is_whole
-from beliefsets.sets import NONE, all_cases, cases_in, has_case, sets_within, size_of
+from beliefsets.sets import NONE, all_cases, cases_in, has_case, is_rising_row, sets_within, size_of
 
 
 def shared_core(n, cores):
@@ -21,18 +21,6 @@ def cores_but(cores, numbers, number):
 def is_case_of_all(n, cores, thing):
     """Whether any thing is a case that is in each of some cores."""
     return is_below(n, thing) and has_case(shared_core(n, cores), thing)
-
-
-def is_rising_row(many, thing):
-    """Whether any thing is a tuple of one or more rising whole numbers below many."""
-    if not isinstance(thing, tuple) or not 1 <= len(thing) <= many:
-        return False
-    ahead = -1
-    for number in thing:
-        if not is_below(many, number) or number <= ahead:
-            return False
-        ahead = number
-    return True
 
 
 def is_lacking(n, cores, numbers, thing):
@@ -64,7 +52,7 @@ def lets_clash(n, pieces, thing):
     if len(thing) != 4 or thing[0] != "all":
         return False
     word, numbers, lacking, needed = thing
-    if not is_rising_row(len(cores), numbers):
+    if not is_rising_row(len(cores), numbers) or numbers == ():
         return False
     return is_lacking(n, cores, numbers, lacking) and is_needed(n, cores, numbers, needed)
 

@@ -1,6 +1,6 @@
 """Sets of cases: whole numbers whose figures, written by twos, tell the cases."""
 
-from beliefsets.fractions import is_whole
+from beliefsets.fractions import is_below, is_whole
 
 NONE = 0
 
@@ -49,3 +49,15 @@ def set_of(cases):
 def is_within(one, other):
     """Whether one set is within another one."""
     return one & other == one
+
+
+def is_rising_row(many, thing):
+    """Whether any thing is a tuple, perhaps void, of rising whole numbers from 0 on, below many."""
+    if not isinstance(thing, tuple) or len(thing) > many:
+        return False
+    ahead = -1
+    for number in thing:
+        if not is_below(many, number) or number <= ahead:
+            return False
+        ahead = number
+    return True

@@ -43,3 +43,8 @@ def laid_at(laying, case):
 def levels_of(n, laying):
     """The levels of a laying: at each case, what is laid there, added."""
     return tuple([total(laid_at(laying, case)) for case in range(n)])
+
+
+def row_with(n, laid):
+    """The tuple of n shares that has those of a dict at their cases, nought elsewhere."""
+    return tuple([laid.get(case, NOUGHT) for case in range(n)])
