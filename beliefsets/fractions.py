@@ -91,8 +91,18 @@ def total(some):
     return fraction(sum(tops), bottom)
 
 
+def is_near(some, whole):
+    """Whether the sum of fractions could be a fraction, by a rough look at each of them."""
+    rough = sum([(one[0] << 64) // one[1] for one in some])
+    # Each division leaves out less than 1, so the rough sum lacks less than one for each fraction.
+    return 0 <= (whole[0] << 64) // whole[1] - rough <= len(some)
+
+
 def come_to(some, whole):
     """Whether the sum of fractions is just a fraction."""
+    # Of many long fractions, as any thing may have them, one bottom is very long: what is far off is told without it.
+    if not is_near(some, whole):
+        return False
     tops, bottom = on_one_bottom(some)
     return sum(tops) * whole[1] == whole[0] * bottom
 
