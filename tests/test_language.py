@@ -152,6 +152,20 @@ class Language(unittest.TestCase):
                 if isinstance(node, ast.Call) and isinstance(node.func, ast.Attribute):
                     self.assertIn(node.func.attr, METHODS | own, at(path, node))
 
+    def test_methods_and_attributes(self):
+        methods, assigned, read = set(), set(), set()
+        builtin = {name for kind in (int, str, list, dict, set, tuple, bytes) for name in dir(kind)}
+        for path, text, tree in each():
+            for node in ast.walk(tree):
+                if isinstance(node, ast.ClassDef):
+                    methods |= {one.name for one in node.body if isinstance(one, ast.FunctionDef)}
+                if isinstance(node, ast.Attribute):
+                    (assigned if isinstance(node.ctx, ast.Store) else read).add(node.attr)
+        methods.discard("__init__")
+        self.assertFalse(methods & assigned)
+        self.assertFalse((methods | assigned) & builtin)
+        self.assertLessEqual(read - METHODS, methods | assigned)
+
     def test_what_is_iterated_at_once(self):
         takers = {"list", "tuple", "dict", "sorted", "sum", "any", "all", "enumerate", "zip", "bytes", "min", "max"}
         for path, text, tree in each():
